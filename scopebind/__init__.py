@@ -1,0 +1,1 @@
+"""Scopebind: a dynamic loader that binds symbols."""
