@@ -72,3 +72,17 @@ def example_store():
 def store_of(needs):
     """Return a store with a library for each key of the dict, with these needs."""
     return Store([Library(name, needs=needs[name]) for name in needs])
+
+
+def no_handles():
+    """Return objects of many kinds, none of them a handle, unless 0 or 1 is one."""
+    return no_words() + ["app", (1,), [1], {1: "app"}, {1}, -2, 99, 2 ** 70, 1 + 0j, "1", b"1"]
+
+
+def process_kept(process):
+    """Return what tells the state of a process, to see that nothing changed it."""
+    row = process.loaded()
+    return [
+        process.scope(), process.order(), row, [process.local(name) for name in row], process.bindings(),
+        process.handles(), len(process),
+    ]

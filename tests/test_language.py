@@ -18,6 +18,14 @@ INTERFACE = {
         "names": None,
     },
     "closures.py": {"closure": None, "definers": None},
+    "process.py": {
+        "Process": [
+            "__init__", "__contains__", "__len__", "scope", "local", "order", "loaded", "copy", "attach", "call",
+            "target", "bindings", "handles", "find", "after", "detach", "why", "holders", "goes", "pins",
+        ],
+    },
+    "targets.py": {"changers": None, "run": None, "upset": None},
+    "preloads.py": {"meets": None, "least_preloads": None},
 }
 
 OUTSIDE = {
